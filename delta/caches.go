@@ -27,3 +27,23 @@ func (c *caches) keep(address int) {
 	c.turn = (c.turn + 1) % api.Near
 	c.same[address%allSame] = address
 }
+
+// tell is the mode by which an address has the shortest text, and that text.
+func (c *caches) tell(address int, here int) (int, string) {
+	mode, text := selfMode, number(address)
+	if short := number(here - address); len(short) < len(text) {
+		mode, text = hereMode, short
+	}
+	for i, near := range c.near {
+		if address < near {
+			continue
+		}
+		if short := number(address - near); len(short) < len(text) {
+			mode, text = nearMode+i, short
+		}
+	}
+	if place := address % allSame; c.same[place] == address && len(text) > 1 {
+		mode, text = sameMode+place/samePlaces, string([]byte{byte(place % samePlaces)})
+	}
+	return mode, text
+}

@@ -28,6 +28,11 @@ func TestP1NoCallPanicsAndErrorsStandAlone(t *testing.T) {
 			if next, e := delta.Apply(old, patch); e != api.OK && next != "" {
 				t.Errorf("P1: Apply(%.60q, %.60q) = %.60q beside the error %d", old, patch, next, e)
 			}
+			for _, window := range []int{-1, 16, 1000} {
+				if text, e := delta.Diff(old, patch, window); e != api.OK && text != "" {
+					t.Errorf("P1: Diff(%.60q, %.60q, %d) = %.60q beside the error %d", old, patch, window, text, e)
+				}
+			}
 		}
 	}
 }
@@ -47,8 +52,11 @@ func TestP1EachByteChanged(t *testing.T) {
 
 func TestP2AnswersDependOnArgumentsAlone(t *testing.T) {
 	var list []written
+	diffs := map[string]string{}
 	for seed := range 40 {
-		list = append(list, newWriter(2000+seed).patch())
+		p := newWriter(2000 + seed).patch()
+		list = append(list, p)
+		diffs[p.patch], _ = delta.Diff(p.old, p.next, 100)
 	}
 	var wait sync.WaitGroup
 	for start := range 8 {
@@ -59,6 +67,9 @@ func TestP2AnswersDependOnArgumentsAlone(t *testing.T) {
 					t.Errorf("P2: Moves at the same time = %v, %d, want %v, OK", moves, e, p.moves)
 				}
 				checkApply(t, p.old, p.patch, p.next, api.OK)
+				if patch, e := delta.Diff(p.old, p.next, 100); patch != diffs[p.patch] || e != api.OK {
+					t.Errorf("P2: Diff at the same time = %q, %d, want %q, OK", patch, e, diffs[p.patch])
+				}
 			}
 		})
 	}
