@@ -1,4 +1,4 @@
-// Package reader takes the text of a patch apart, from its front to its end.
+// Package reader takes the text of a patch or of a log apart, from its front to its end.
 package reader
 
 import (
@@ -48,6 +48,9 @@ func (r *Reader) Byte() int {
 	}
 	return int(b[0])
 }
+
+// At is the place of what is taken next.
+func (r *Reader) At() int { return r.at }
 
 // More tells whether something is left to take.
 func (r *Reader) More() bool { return !r.failed && r.at < len(r.text) }

@@ -21,8 +21,8 @@ func TestP6PartsAreTakenInOrder(t *testing.T) {
 	if s := r.Piece(0); s != "" || r.Failed() {
 		t.Errorf("Piece of nothing = %q, failed %v", s, r.Failed())
 	}
-	if !r.More() || r.Whole() {
-		t.Errorf("ahead of the end: More %v, Whole %v", r.More(), r.Whole())
+	if !r.More() || r.Whole() || r.At() != 5 {
+		t.Errorf("ahead of the end: More %v, Whole %v, At %d", r.More(), r.Whole(), r.At())
 	}
 	if s := r.Piece(2); s != "cd" {
 		t.Errorf("Piece = %q", s)

@@ -1,0 +1,49 @@
+package place
+
+import (
+	"strings"
+
+	"tailor/api"
+	"tailor/match"
+)
+
+// least is the size from which on a Copy makes no patch longer: it has up to 7 bytes, and what an Add that is parted by it has more is up to 5. So a patch has at most 23 bytes more than the new text, and far fewer steps than there may be.
+const least = 12
+
+// cut says a new text by steps, listed by the places to which they go.
+func cut(old string, next string) []api.Step {
+	var list []api.Step
+	left := 0 // the first byte that no step makes yet
+	for here := 0; here < len(next); {
+		from, size := source(old, next, here)
+		if size < least {
+			here++
+			continue
+		}
+		list = appendAdd(list, next, left, here)
+		list = append(list, api.Step{Kind: api.Copy, To: here, Size: size, From: from})
+		here += size
+		left = here
+	}
+	return appendAdd(list, next, left, len(next))
+}
+
+func appendAdd(list []api.Step, next string, to int, end int) []api.Step {
+	if to == end {
+		return list
+	}
+	return append(list, addOf(next, to, end-to))
+}
+
+func addOf(next string, to int, size int) api.Step {
+	return api.Step{Kind: api.Add, To: to, Size: size, Data: next[to : to+size]}
+}
+
+// source is where the most bytes stand that the new text has from here on, and how many. Bytes that may stay where they are do: then no step has to wait for them.
+func source(old string, next string, here int) (int, int) {
+	from, size := match.Longest(old, len(old), next[here:])
+	if here < len(old) && strings.HasPrefix(old[here:], next[here:here+size]) {
+		from = here
+	}
+	return from, size
+}
