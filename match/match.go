@@ -21,3 +21,12 @@ search:
 	}
 	return at, size
 }
+
+// Front is how many bytes two texts have alike from their fronts on.
+func Front(text string, other string) int {
+	size := 0
+	for size < min(len(text), len(other)) && text[size] == other[size] {
+		size++
+	}
+	return size
+}

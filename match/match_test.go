@@ -66,3 +66,19 @@ func TestP8AndP10LongestOfTextsByChance(t *testing.T) {
 		check(t, within, chance.IntN(len(within)+1), sought)
 	}
 }
+
+func TestP12Front(t *testing.T) {
+	for _, c := range []struct {
+		text, other string
+		want        int
+	}{
+		{"", "", 0}, {"", "a", 0}, {"a", "", 0}, {"a", "b", 0}, {"ab", "cb", 0},
+		{"abc", "abd", 2}, {"abcx", "abdx", 2},
+		{"abc", "abc", 3}, {"abc", "abcd", 3}, {"abcd", "abc", 3},
+		{"\x00\xff", "\x00\xff\x00", 2},
+	} {
+		if size := match.Front(c.text, c.other); size != c.want {
+			t.Errorf("Front(%q, %q) = %d, want %d", c.text, c.other, size, c.want)
+		}
+	}
+}

@@ -7,14 +7,22 @@ import (
 	"tailor/match"
 )
 
-// least is the size from which on a Copy makes no patch longer: it has up to 7 bytes, and what an Add that is parted by it has more is up to 5. So a patch has at most 23 bytes more than the new text, and far fewer steps than there may be.
+// least is the size from which on a Copy makes no patch longer: it has up to 7 bytes, and what an Add that is parted by it has more is up to 5. So a patch has at most 23 bytes more than the new text, and far fewer steps than there may be. (And it is not greater than a block: see settle.)
 const least = 12
 
-// cut says a new text by steps, listed by the places to which they go.
+// cut says a new text by steps, listed by the places to which they go. What both texts begin with stays, and the first byte in which they differ is added, even where a Copy could make it: a patch that was begun or done is known by its bytes alone, so one that could make the old text out of another text would be taken as done where it is not. A patch with this byte in it makes the old text out of none.
 func cut(old string, next string) []api.Step {
 	var list []api.Step
 	left := 0 // the first byte that no step makes yet
-	for here := 0; here < len(next); {
+	here := match.Front(old, next)
+	if here >= least {
+		list = append(list, api.Step{Kind: api.Copy, Size: here})
+		left = here
+	}
+	if here < len(old) {
+		here++
+	}
+	for here < len(next) {
 		from, size := source(old, next, here)
 		if size < least {
 			here++

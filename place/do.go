@@ -4,6 +4,7 @@ import (
 	"tailor/api"
 	"tailor/blocks"
 	"tailor/code"
+	"tailor/match"
 )
 
 // begin sees that the old text is there, and makes sure that the patch is begun; of the text nothing is written yet.
@@ -52,11 +53,24 @@ func goOn(d *blocks.Dev, j *journal, p api.Plan) api.Errno {
 	return api.OK
 }
 
-// settle makes sure that a text stands in its place; false: there is no power. One that stands there already is not written again, so that a call gets further on little power.
+// settle makes sure that a text stands in its place; false: there is no power. What stands there already is not written again, so that a call gets further on little power.
+// The first block that changes is made sure ahead of the others. In it is the byte that cut adds; what is ahead of that stays, or it is less than a block and is added with it. So the old text stands there only as long as nothing is written: else so much of a text that is partly written might stay that it is another old text of the same patch.
 func settle(d *blocks.Dev, next string) bool {
 	there, ok := d.ReadText(0, len(next))
-	if ok && there != next {
-		ok = d.WriteText(0, next)
+	if !ok {
+		return false
 	}
-	return ok && d.SyncText()
+	end := endOfBlock(match.Front(there, next), len(next))
+	if there[:end] != next[:end] && !(d.WriteText(0, next[:end]) && d.SyncText()) {
+		return false
+	}
+	if there[end:] != next[end:] && !d.WriteText(end, next[end:]) {
+		return false
+	}
+	return d.SyncText()
+}
+
+// endOfBlock is the place behind the block in which a place is, of a text of so many bytes.
+func endOfBlock(at int, size int) int {
+	return min(at-at%blocks.Size+blocks.Size, size)
 }

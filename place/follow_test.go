@@ -1,6 +1,7 @@
 package place_test
 
 import (
+	"strings"
 	"testing"
 
 	"tailor/api"
@@ -71,6 +72,141 @@ func TestP12ItComesToTheNewText(t *testing.T) {
 		}
 		if textOf(d, len(next)) != next || !isDone(d, patch) {
 			t.Fatalf("P12: from %q to %q: the text is %q", old, next, textOf(d, len(next)))
+		}
+	}
+}
+
+// evenly is a text of bytes that are 33 on the average: so it may move past bytes that are 33, and the sum of the whole text stays.
+func (d drawer) evenly(size int) string {
+	bytes := make([]byte, size)
+	for i := range bytes {
+		bytes[i] = 33
+	}
+	for i := 0; i+1 < size; i += 2 {
+		by := 1 + d.IntN(32)
+		bytes[i], bytes[i+1] = byte(33-by), byte(33+by)
+	}
+	d.Shuffle(size, func(i, j int) { bytes[i], bytes[j] = bytes[j], bytes[i] })
+	return string(bytes)
+}
+
+// shifts are texts of one sum: ahead, then a text that moves by so many bytes from the one to the next, then behind.
+func (d drawer) shifts(ahead, behind string, by, count int) []string {
+	middle := d.evenly(12 + d.IntN(60))
+	var list []string
+	for k := range count {
+		list = append(list, ahead+strings.Repeat("!", by*(count-1-k))+middle+strings.Repeat("!", by*k)+behind)
+	}
+	return list
+}
+
+// checkComes: on a device that has the old text, the patch that Make made comes to the new one, with or without loss of power.
+func checkComes(t *testing.T, d *blocks.Dev, old, next string, draw drawer) {
+	t.Helper()
+	if has := textOf(d, len(old)); has != old {
+		t.Fatalf("the test is wrong: the device has %q, not the old text %q", has, old)
+	}
+	patch := makeOf(old, next)
+	for draw.IntN(2) == 0 {
+		d.Die(draw.IntN(12))
+		e := place.Do(d, patch)
+		if e != api.OK && (e != api.ErrDev || !d.Dead()) {
+			t.Fatalf("P12: from %q to %q: Do = %d", old, next, e)
+		}
+		d.Power(draw.keep())
+	}
+	e := place.Do(d, patch)
+	if has := textOf(d, len(next)); e != api.OK || has != next {
+		t.Fatalf("P12: from %q to %q: Do = %d; the text is %q", old, next, e, has)
+	}
+}
+
+func TestP12BehindAPatchOfTheSameSums(t *testing.T) {
+	z := "\x17+\x18*\x19)\x1a(\x1b'!"
+	d := blocks.New(500, "!!"+z)
+	checkComes(t, d, "!!"+z, "!"+z+"!", newDrawer(0))
+	checkComes(t, d, "!"+z+"!", z+"!!", newDrawer(0))
+	for seed := range 1500 {
+		draw := newDrawer(seed)
+		ahead, behind := draw.text(draw.IntN(40)), draw.text(draw.IntN(40))
+		list := draw.shifts(ahead, behind, 1+draw.IntN(20), 3+draw.IntN(3))
+		if draw.IntN(2) == 0 {
+			for i, j := 0, len(list)-1; i < j; i, j = i+1, j-1 {
+				list[i], list[j] = list[j], list[i]
+			}
+		}
+		d := blocks.New(500, list[0])
+		for k := range 2 * len(list) {
+			checkComes(t, d, list[k%len(list)], list[(k+1)%len(list)], draw)
+		}
+	}
+}
+
+// A device has an old text, if this stands in its place, whatever stands behind that.
+func TestP12BehindAPatchOfAnotherLength(t *testing.T) {
+	for seed := range 1000 {
+		draw := newDrawer(seed)
+		list := draw.shifts(draw.text(draw.IntN(20)), "", 1+draw.IntN(11), 3)
+		end := draw.text(1 + draw.IntN(40))
+		longer := blocks.New(500, list[0])
+		checkComes(t, longer, list[0], list[1]+end, draw)
+		checkComes(t, longer, list[1], list[2]+end, draw)
+		shorter := blocks.New(500, list[0]+end)
+		checkComes(t, shorter, list[0]+end, list[1], draw)
+		if has := textOf(shorter, len(list[1]+end)); has == list[1]+end {
+			checkComes(t, shorter, list[1]+end, list[2], draw)
+		}
+	}
+}
+
+// A text that is partly written is no old text of the patch that is begun, nor is one that is all written: here the block from the place at on, if it is written ahead of the first that differs, makes another text of the same sum.
+func TestP12BehindAPatchThatWasBegun(t *testing.T) {
+	for seed := range 150 {
+		draw := newDrawer(seed)
+		at := blocks.Size * (1 + draw.IntN(3))
+		middle, between, end := draw.evenly(11), draw.text(draw.IntN(11)), draw.text(20)
+		front := draw.text(at - 1 - len(between))
+		texts := []string{
+			front + "1" + between + "!!" + middle + end,
+			front + "2" + between + "!" + middle + "!" + end,
+			front + "1" + between + "!" + middle + "!" + end,
+			front + "2" + between + middle + "!!" + end,
+		}
+		checkWhereverItStops(t, texts, makeOf(texts[0], texts[1]))
+	}
+}
+
+// checkWhereverItStops lets the power go at each call that a patch from the first text makes, and each choice of blocks stay.
+func checkWhereverItStops(t *testing.T, texts []string, patch string) {
+	t.Helper()
+	for k := 0; ; k++ {
+		d := blocks.New(len(texts[0]), texts[0])
+		d.Die(k)
+		e := place.Do(d, patch)
+		for keep := range 1 << (d.Len()/blocks.Size + 1) {
+			c := d.Copy()
+			c.Power([]int{keep * 31, keep, keep >> 1, keep >> 2, keep >> 3, keep >> 4, keep >> 5})
+			checkHas(t, c, texts)
+		}
+		if e == api.OK {
+			return
+		}
+	}
+}
+
+// checkHas: whichever text the device has, a patch from it to whichever other one is either refused, or comes to that.
+func checkHas(t *testing.T, d *blocks.Dev, texts []string) {
+	t.Helper()
+	for _, old := range texts {
+		for _, next := range texts {
+			c := d.Copy()
+			if textOf(c, len(old)) != old {
+				continue
+			}
+			e := place.Do(c, makeOf(old, next))
+			if e != api.ErrOld && (e != api.OK || textOf(c, len(next)) != next) {
+				t.Fatalf("P12: on a device that has %q, to %q: Do = %d; the text is %q", old, next, e, textOf(c, len(next)))
+			}
 		}
 	}
 }

@@ -32,6 +32,7 @@ func checkMake(t *testing.T, old, next string) ([]api.Step, string) {
 	}
 	checkFirstPlaces(t, p.Steps)
 	checkAdds(t, p.Steps)
+	checkNotBehindItself(t, old, next, p)
 	checkRead(t, "made", patch, p, api.OK)
 	return p.Steps, patch
 }
@@ -66,6 +67,38 @@ func checkAdds(t *testing.T, steps []api.Step) {
 	for _, s := range steps {
 		if s.Kind == api.Add && ends[s.To] > 0 {
 			t.Fatalf("P10: of the steps %v some adds are side by side", steps)
+		}
+	}
+}
+
+// checkNotBehindItself: on whatever text a patch was done, behind it the device has not the old text that Make was given, unless it has the new one too (P12): else the patch would be known as done where it is not. The text that it was done on is worked out byte by byte from what stands behind it.
+func checkNotBehindItself(t *testing.T, old, next string, p api.Plan) {
+	t.Helper()
+	before := make([]int, p.OldLen) // bytes of it; -1: any
+	for at := range before {
+		before[at] = -1
+		if at >= p.NewLen {
+			before[at] = int(old[at])
+		}
+	}
+	for _, s := range p.Steps {
+		for i := range min(s.Size, p.OldLen-s.To) {
+			want := int(old[s.To+i])
+			switch {
+			case s.Kind == api.Add && int(s.Data[i]) != want:
+				return
+			case s.Kind == api.Copy && before[s.From+i] != -1 && before[s.From+i] != want:
+				return
+			case s.Kind == api.Copy:
+				before[s.From+i] = want
+			}
+		}
+	}
+	for _, s := range p.Steps {
+		for i := range s.Size {
+			if s.Kind == api.Copy && before[s.From+i] != int(next[s.To+i]) {
+				t.Fatalf("P12: Make(%q, %q) has the steps %v, which may have made the old text out of another one", old, next, p.Steps)
+			}
 		}
 	}
 }
@@ -205,8 +238,8 @@ func TestP10TheShortestOfARingIsAdded(t *testing.T) {
 	a, b, c := text[:100], text[100:300], text[300:]
 	for next, want := range map[string]int{b + a + c: 100, b + c + a: 100, c + a + b: 300, c + b + a: 300} {
 		steps, patch := checkMake(t, text, next)
-		if added := len(next) - sizeOfCopies(steps); added > want || len(patch) > want+50 {
-			t.Errorf("P10: %d bytes are added, in %d of the patch, want up to the %d of the shortest piece", added, len(patch), want)
+		if added := len(next) - sizeOfCopies(steps); added > want+1 || len(patch) > want+50 {
+			t.Errorf("P10: %d bytes are added, in %d of the patch, want up to the %d of the shortest piece and the first byte that differs", added, len(patch), want)
 		}
 	}
 }
@@ -216,8 +249,8 @@ func TestP10BytesThatMayStayDo(t *testing.T) {
 	old := twice + between + twice
 	// From its first place it would be in a ring with the piece that goes there.
 	steps, _ := checkMake(t, old, old[60:100]+more+twice)
-	if size := sizeOfCopies(steps); size != 80 {
-		t.Errorf("P10: %d bytes are copied by %v, want 80", size, steps)
+	if size := sizeOfCopies(steps); size != 79 {
+		t.Errorf("P10: %d bytes are copied by %v, want 80 but for the first that differs", size, steps)
 	}
 }
 
