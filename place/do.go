@@ -35,7 +35,7 @@ func made(old string, p api.Plan) string {
 	return string(next)
 }
 
-// goOn brings a patch that is surely begun to its end. It takes the new text from the log, not from the old text, which may be partly gone: so it may be done again as often as the power goes.
+// goOn brings a patch that is surely begun, on a text that is sure, to its end. It takes the new text from the log, not from the old text, which may be partly gone: so it may be done again as often as the power goes.
 func goOn(d *blocks.Dev, j *journal, p api.Plan) api.Errno {
 	if !settle(d, j.next) {
 		return api.ErrDev
@@ -53,7 +53,7 @@ func goOn(d *blocks.Dev, j *journal, p api.Plan) api.Errno {
 	return api.OK
 }
 
-// settle makes sure that a text stands in its place; false: there is no power. What stands there already is not written again, so that a call gets further on little power.
+// settle makes sure that a text stands in its place; false: there is no power. What stands there is sure already, and so much of it as is right is not written again, so that a call gets further on little power.
 // The first block that changes is made sure ahead of the others. In it is the byte that cut adds; what is ahead of that stays, or it is less than a block and is added with it. So the old text stands there only as long as nothing is written: else so much of a text that is partly written might stay that it is another old text of the same patch.
 func settle(d *blocks.Dev, next string) bool {
 	there, ok := d.ReadText(0, len(next))
@@ -61,13 +61,12 @@ func settle(d *blocks.Dev, next string) bool {
 		return false
 	}
 	end := endOfBlock(match.Front(there, next), len(next))
-	if there[:end] != next[:end] && !(d.WriteText(0, next[:end]) && d.SyncText()) {
-		return false
-	}
-	if there[end:] != next[end:] && !d.WriteText(end, next[end:]) {
-		return false
-	}
-	return d.SyncText()
+	return put(d, 0, there[:end], next[:end]) && put(d, end, there[end:], next[end:])
+}
+
+// put makes sure that a piece of the new text stands in its place; what is there now is sure.
+func put(d *blocks.Dev, at int, there string, piece string) bool {
+	return there == piece || d.WriteText(at, piece) && d.SyncText()
 }
 
 // endOfBlock is the place behind the block in which a place is, of a text of so many bytes.

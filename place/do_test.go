@@ -29,11 +29,11 @@ func checkText(t *testing.T, name string, d *blocks.Dev, want string) {
 	}
 }
 
-// isDone: there is nothing to do, so that no call is made that needs power.
+// isDone: there is nothing to do but to make sure of the log, so that power for one call is enough.
 func isDone(d *blocks.Dev, patch string) bool {
 	c := d.Copy()
 	c.Die(1)
-	return place.Do(c, patch) == api.OK && !c.Dead()
+	return place.Do(c, patch) == api.OK
 }
 
 // checkSure: whatever is not sure is lost, and the text stands there still, and its patch is done.
@@ -403,6 +403,15 @@ func (d drawer) keep() []int {
 	return list
 }
 
+// power brings it back: mostly what is not sure may be lost, at times nothing is, and nothing is made sure.
+func (d drawer) power(dev *blocks.Dev) {
+	if d.IntN(3) == 0 {
+		dev.Die(plenty)
+	} else {
+		dev.Power(d.keep())
+	}
+}
+
 func TestP11ThePowerGoesAgainAndAgain(t *testing.T) {
 	for seed := range 3000 {
 		draw := newDrawer(seed)
@@ -410,12 +419,12 @@ func TestP11ThePowerGoesAgainAndAgain(t *testing.T) {
 		d := p.device(t)
 		for range draw.IntN(12) {
 			p.tryOther(t, d, draw)
-			d.Die(draw.IntN(7))
+			d.Die(draw.IntN(10))
 			e := place.Do(d, p.patch)
 			if e != api.OK && (e != api.ErrDev || !d.Dead()) {
 				t.Fatalf("P11: Do = %d", e)
 			}
-			d.Power(draw.keep())
+			draw.power(d)
 			p.checkHalfway(t, d)
 		}
 		p.checkEnd(t, d)
@@ -429,7 +438,7 @@ func (p play) tryOther(t *testing.T, d *blocks.Dev, draw drawer) {
 		return
 	}
 	c := d.Copy()
-	c.Die(1 + draw.IntN(2))
+	c.Die(1 + draw.IntN(3))
 	checkDo(t, "another one", c, p.other, api.ErrDev)
 	c.Power([]int{draw.IntN(40)})
 	if place.Do(c.Copy(), p.first) == api.OK { // else it is begun, and this is no way to go
@@ -437,7 +446,7 @@ func (p play) tryOther(t *testing.T, d *blocks.Dev, draw drawer) {
 	}
 }
 
-// Each time there is power for three calls only, and nothing stays that is not sure.
+// Each time there is power for four calls only, and little or nothing stays that is not sure: two to make sure of what was found, one to get further, one to make sure of that.
 func TestP11LittlePowerIsEnough(t *testing.T) {
 	for _, p := range plays() {
 		for _, keep := range [][]int{nil, {1}, {7, 1, 0, 1}, {0, 1, 1, 1}} {
@@ -447,7 +456,7 @@ func TestP11LittlePowerIsEnough(t *testing.T) {
 				if tries > 10 {
 					t.Fatalf("P11: it comes to no end on little power")
 				}
-				d.Die(3)
+				d.Die(4)
 				done = place.Do(d, p.patch) == api.OK
 				d.Power(keep)
 			}
@@ -470,7 +479,7 @@ func TestP11OneBehindTheOther(t *testing.T) {
 			if e != api.OK && (e != api.ErrDev || !d.Dead()) {
 				t.Fatalf("P11: Do = %d", e)
 			}
-			d.Power(draw.keep())
+			draw.power(d)
 			if e == api.OK {
 				break
 			}

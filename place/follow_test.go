@@ -62,7 +62,11 @@ func TestP12ItComesToTheNewText(t *testing.T) {
 			for i := range keep {
 				keep[i] = draw.IntN(10000) - 100
 			}
-			d.Power(keep)
+			if draw.IntN(4) == 0 {
+				d.Die(plenty) // nothing is lost, nothing is made sure
+			} else {
+				d.Power(keep)
+			}
 			if e == api.OK {
 				break
 			}
@@ -113,7 +117,7 @@ func checkComes(t *testing.T, d *blocks.Dev, old, next string, draw drawer) {
 		if e != api.OK && (e != api.ErrDev || !d.Dead()) {
 			t.Fatalf("P12: from %q to %q: Do = %d", old, next, e)
 		}
-		d.Power(draw.keep())
+		draw.power(d)
 	}
 	e := place.Do(d, patch)
 	if has := textOf(d, len(next)); e != api.OK || has != next {
@@ -159,38 +163,66 @@ func TestP12BehindAPatchOfAnotherLength(t *testing.T) {
 	}
 }
 
-// A text that is partly written is no old text of the patch that is begun, nor is one that is all written: here the block from the place at on, if it is written ahead of the first that differs, makes another text of the same sum.
-func TestP12BehindAPatchThatWasBegun(t *testing.T) {
-	for seed := range 150 {
-		draw := newDrawer(seed)
-		at := blocks.Size * (1 + draw.IntN(3))
-		middle, between, end := draw.evenly(11), draw.text(draw.IntN(11)), draw.text(20)
-		front := draw.text(at - 1 - len(between))
-		texts := []string{
-			front + "1" + between + "!!" + middle + end,
-			front + "2" + between + "!" + middle + "!" + end,
-			front + "1" + between + "!" + middle + "!" + end,
-			front + "2" + between + middle + "!!" + end,
-		}
-		checkWhereverItStops(t, texts, makeOf(texts[0], texts[1]))
+// alike are texts of which the second comes out of the first by the same patch as the fourth out of the third. The block in which the middle begins makes the third one, if it is written ahead of the first that differs.
+func (d drawer) alike() []string {
+	at := blocks.Size * (1 + d.IntN(3))
+	middle, between, end := d.evenly(10)+"!", d.text(d.IntN(11)), d.text(20)
+	front := d.text(at - 1 - len(between))
+	return []string{
+		front + "1" + between + "!!" + middle + end,
+		front + "2" + between + "!" + middle + "!" + end,
+		front + "1" + between + "!" + middle + "!" + end,
+		front + "2" + between + middle + "!!" + end,
 	}
 }
 
-// checkWhereverItStops lets the power go at each call that a patch from the first text makes, and each choice of blocks stay.
-func checkWhereverItStops(t *testing.T, texts []string, patch string) {
+// A text that is partly written is no old text of the patch that is begun, nor is one that is all written.
+func TestP12BehindAPatchThatWasBegun(t *testing.T) {
+	for seed := range 150 {
+		texts := newDrawer(seed).alike()
+		checkWhereverItStops(t, texts, blocks.New(len(texts[0]), texts[0]), seed < 8)
+	}
+}
+
+// Who has just written the old text, where another one of the same patch stood, and made nothing sure: the patch is begun only on a text that is sure.
+func TestP12BehindATextThatWasNotSure(t *testing.T) {
+	for seed := range 50 {
+		texts := newDrawer(seed).alike()
+		d := blocks.New(len(texts[2]), texts[2])
+		if !d.WriteText(0, texts[0]) {
+			t.Fatal("the test is wrong")
+		}
+		checkWhereverItStops(t, texts, d, seed < 3)
+	}
+}
+
+// checkWhereverItStops lets the power go at each call that the patch from the first text to the second makes, and each choice of blocks stay; and, if it is to stop twice, come back with nothing lost and go at each call again.
+func checkWhereverItStops(t *testing.T, texts []string, begin *blocks.Dev, twice bool) {
 	t.Helper()
-	for k := 0; ; k++ {
-		d := blocks.New(len(texts[0]), texts[0])
+	patch := makeOf(texts[0], texts[1])
+	if patch != makeOf(texts[2], texts[3]) {
+		t.Fatal("the test is wrong: these should have the same patch")
+	}
+	for e, k := api.ErrDev, 0; e != api.OK; k++ {
+		d := begin.Copy()
 		d.Die(k)
-		e := place.Do(d, patch)
-		for keep := range 1 << (d.Len()/blocks.Size + 1) {
+		e = place.Do(d, patch)
+		checkWhateverStays(t, texts, d)
+		for more := 1; twice && more < 10; more++ {
 			c := d.Copy()
-			c.Power([]int{keep * 31, keep, keep >> 1, keep >> 2, keep >> 3, keep >> 4, keep >> 5})
-			checkHas(t, c, texts)
+			c.Die(more)
+			place.Do(c, patch)
+			checkWhateverStays(t, texts, c)
 		}
-		if e == api.OK {
-			return
-		}
+	}
+}
+
+func checkWhateverStays(t *testing.T, texts []string, d *blocks.Dev) {
+	t.Helper()
+	for keep := range 1 << (d.Len()/blocks.Size + 1) {
+		c := d.Copy()
+		c.Power([]int{keep * 31, keep, keep >> 1, keep >> 2, keep >> 3, keep >> 4, keep >> 5})
+		checkHas(t, c, texts)
 	}
 }
 

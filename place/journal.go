@@ -16,8 +16,7 @@ type journal struct {
 	patch string // "": none was begun
 	next  string // what it makes: with this it is gone on with, whatever has become of the old text
 	done  bool
-	whole int    // how much of the log is whole records
-	rest  string // what is behind them: some bytes of a record that the power cut off
+	whole int // how many bytes of the log are whole records; behind them may be some of one that the power cut off
 }
 
 func readJournal(log string) *journal {
@@ -26,7 +25,6 @@ func readJournal(log string) *journal {
 	for r.More() && j.take(r) {
 		j.whole = r.At()
 	}
-	j.rest = log[j.whole:]
 	return j
 }
 
@@ -48,6 +46,10 @@ func (j *journal) take(r *reader.Reader) bool {
 	return false
 }
 
+// secure makes sure of all that the log has told; false: there is no power. A log may be read ahead of being sure, and the device does not tell which it is: what is answered or written by one that is lost then would stand there alone.
+// Cut makes sure of what it leaves, and so what the power cut off goes by the same call.
+func (j *journal) secure(d *blocks.Dev) bool { return d.Cut(j.whole) }
+
 func (j *journal) begun() bool { return j.patch != "" && !j.done }
 
 // begin tells the log that a patch is begun, and makes sure of it; false: there is no power.
@@ -58,7 +60,7 @@ func (j *journal) begin(d *blocks.Dev, patch string, next string) bool {
 	w.WriteString(patch)
 	w.number(len(next))
 	w.WriteString(next)
-	if !j.lay(d, w.String()) {
+	if !lay(d, w.String()) {
 		return false
 	}
 	j.patch, j.next, j.done = patch, next, false
@@ -67,19 +69,11 @@ func (j *journal) begin(d *blocks.Dev, patch string, next string) bool {
 
 // end tells the log that the patch is done, and makes sure of it; false: there is no power.
 func (j *journal) end(d *blocks.Dev) bool {
-	j.done = j.lay(d, doneMark)
+	j.done = lay(d, doneMark)
 	return j.done
 }
 
-// lay lays a record behind the whole ones, and makes sure of it.
-func (j *journal) lay(d *blocks.Dev, record string) bool {
-	if j.rest != "" && !d.Cut(j.whole) {
-		return false
-	}
-	j.rest = ""
-	if !d.Log(record) || !d.SyncLog() {
-		return false
-	}
-	j.whole += len(record)
-	return true
+// lay lays a record behind the log, which has whole ones alone, and makes sure of it.
+func lay(d *blocks.Dev, record string) bool {
+	return d.Log(record) && d.SyncLog()
 }
